@@ -1,0 +1,1 @@
+"""Farheap: distributed garbage collection for several sites."""
