@@ -123,10 +123,11 @@ class OutgoingTest(unittest.TestCase):
         out = Outgoing()
         for number in range(1, 701):
             self.assertEqual(out.put(("got", number)), number)
-        self.check(out, 700, 0, pairs(1, 700))
         for number in range(0, 701, 50):
             out.acknowledge(number)
-            self.check(out, 700, number, pairs(number + 1, 700))
+            self.assertEqual((out.put_count, out.acknowledged), (700, number))
+            # Not assertEqual: it takes minutes to show how two long lists differ.
+            self.assertTrue(out.due() == pairs(number + 1, 700))
 
     def test_the_list_belongs_to_the_caller(self):
         out = filled(3)
