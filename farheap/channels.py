@@ -1,6 +1,6 @@
 """The two ends of a channel, and the network between them."""
 
-from farheap.errors import Unknown
+from farheap.checks import check_index
 
 
 class Outgoing:
@@ -73,19 +73,14 @@ class Network:
 
     def take_out(self, index):
         """Remove the packet with this index and return it."""
-        self._check(index)
+        check_index(index, len(self._packets), "packet")
         return self._packets.pop(index)
 
     def repeat(self, index):
         """Add the packet with this index to the end of the list once more."""
-        self._check(index)
+        check_index(index, len(self._packets), "packet")
         self._packets.append(self._packets[index])
 
     def packets(self):
         """Return the list of packets."""
         return list(self._packets)
-
-    def _check(self, index):
-        if index < 0 or index >= len(self._packets):
-            # The index is not shown: Python does not write out a very long integer.
-            raise Unknown("there is no packet with this index")
